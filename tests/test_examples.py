@@ -2,7 +2,10 @@
 
 import unittest
 
+from similarforms.divisor import squarefree_part
 from similarforms.ground import Ground
+from similarforms.matrix import Matrix
+from similarforms.poly import Poly
 from similarforms.ratio import Ratio
 
 
@@ -12,3 +15,9 @@ class ExamplesTest(unittest.TestCase):
 
     def test_ratio(self):
         self.assertEqual(str(Ratio(1, 2) + Ratio(-2, 3)), "-1/6")
+
+    def test_squarefree_part(self):
+        self.assertEqual(str(squarefree_part(Poly(Ground(3), (1, 0, 0, 1)))), "(1)*x + (1)")
+
+    def test_determinant(self):
+        self.assertEqual(Matrix(Ground(5), ((1, 2), (3, 4))).determinant() == Ground(5).number(3), True)

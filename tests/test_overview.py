@@ -1,35 +1,107 @@
 """Points 0.1 to 0.3: nothing changes, equal arguments give equal results."""
 
+import copy
 import unittest
 
+from similarforms.divisor import are_coprime, cofactors, common_divisor, common_multiple, multiplicity, squarefree_part
+from similarforms.errors import Fault
 from similarforms.ground import Ground, taken
-from tests.values import every_value
+from similarforms.linear import kernel, rank, reduced, same_span, solve, span_holds
+from similarforms.matrix import Matrix, companion, diagonal, nothing, unit
+from similarforms.poly import Poly
+from similarforms.ratio import Ratio, is_integer
+from similarforms.residue import Residue
+from tests.values import GROUNDS, every_value, same_object_state
+
+OPERATORS = {
+    "+": lambda a, b: a + b, "-": lambda a, b: a - b, "*": lambda a, b: a * b, "//": lambda a, b: a // b,
+    "%": lambda a, b: a % b, "==": lambda a, b: a == b, "!=": lambda a, b: a != b, "negative": lambda a, b: -a,
+    "str": lambda a, b: str(a), "len": lambda a, b: len(a),
+}
+PAIRED = (common_divisor, common_multiple, are_coprime, cofactors, multiplicity)
 
 
-def states(values):
-    return [(type(value), vars(value)) if hasattr(value, "__dict__") else value for value in values]
+def calls():
+    """Return calls of everything in chapters 1 to 3, as pairs of a function and its arguments."""
+    found = []
+    for ground in GROUNDS:
+        numbers = [ground.number(n) for n in (0, 1, 3, -1)]
+        polys = [Poly(ground, row) for row in ((), (1,), (1, 1), (2, 0, 3), (0, 0, 0, 1))]
+        matrices = [Matrix(ground, ()), Matrix(ground, ((1, 2), (3, 4))), Matrix(ground, [[1, 1]] * 2),
+                    nothing(ground, 2, 3), Matrix(ground, (), 2)]
+        found += calls_of_grounds(ground, numbers, matrices)
+        for own in (numbers, polys, matrices):
+            found += calls_of_methods(own, [2, -2, numbers[1], polys[2], numbers[:2], numbers[:3]])
+        found += [(f, (x,)) for f in polys for x in numbers]
+        for f in polys:
+            found += [(squarefree_part, (f,)), (companion, (f,))]
+            found += [(each, (f, g)) for each in PAIRED for g in polys]
+        for m in matrices:
+            found += [(each, (m,)) for each in (reduced, rank, kernel)]
+            found += [(each, (m, w)) for each in (solve, span_holds) for w in (numbers[:2], numbers[:3], [])]
+            found += [(same_span, (m, other)) for other in matrices]
+    return found
+
+
+def calls_of_grounds(ground, numbers, matrices):
+    rows = [list(numbers), [1, 0, -2, 0, 0], (1, 2), [[1, 2], [3, 4]], [[1], [2, 3]], [numbers, numbers], []]
+    found = [(kind, (ground, row)) for row in rows for kind in (Poly, Matrix)]
+    found += [(diagonal, (ground, matrices[:2])), (diagonal, (ground, [])), (unit, (ground, 3))]
+    found += [(taken, (ground, x)) for x in numbers + [5, None]]
+    found += [(ground.read, (text,)) for text in ("1", "-1/2", "x")]
+    return found + [(ground.members, ()), (ground.number, (3, 4)), (ground.is_member, (numbers,))]
+
+
+def calls_of_methods(own, arguments):
+    """Return calls of all operators and methods of objects of one class, with arguments of many kinds."""
+    found = [(operator, (a, b)) for name, operator in OPERATORS.items() for a in own for b in own
+             if name != "str" or not isinstance(a, Matrix)]
+    names = [name for name in vars(type(own[0])) if not name.startswith("_")]
+    found += [(getattr(type(a), name), (a,)) for a in own for name in names]
+    return found + [(getattr(type(a), name), (a, b)) for a in own for name in names for b in arguments]
+
+
+def outcome(function, arguments):
+    try:
+        return same_object_state(function(*arguments))
+    except (Fault, TypeError, AttributeError) as error:
+        return (type(error).__name__, sorted(vars(error).items()))
 
 
 class OverviewTest(unittest.TestCase):
-    def test_numbers_and_grounds_never_change(self):
-        for p in (0, 2, 31):
-            numbers = [Ground(p).number(n) for n in range(4)]
-            before = [dict(vars(number)) for number in numbers]
-            for a in numbers:
-                for b in numbers[1:]:
-                    for answer in (a + b, a - b, a * b, -a, a == b, str(a), a.power(2), a.is_zero()):
-                        self.assertIsNot(answer, None)
-            self.assertEqual([vars(number) for number in numbers], before)
+    def test_no_function_changes_its_arguments_and_equal_arguments_give_equal_results(self):
+        for function, arguments in calls():
+            before = same_object_state(arguments)
+            twin = copy.deepcopy(arguments)
+            first = outcome(function, arguments)
+            self.assertEqual(same_object_state(arguments), before, function)
+            self.assertEqual(outcome(function, arguments), first, function)
+            self.assertEqual(outcome(function, twin), first, function)
 
-    def test_equal_arguments_give_equal_results(self):
-        for p in (0, 2, 31):
-            self.assertEqual(Ground(p).number(2, 3), Ground(p).number(2, 3))
-            self.assertEqual(taken(Ground(p), 5), taken(Ground(p), 5))
-            self.assertEqual(Ground(p).read("1"), Ground(p).read("1"))
+    def test_objects_do_not_follow_the_lists_that_they_were_made_of(self):
+        for ground in GROUNDS:
+            row = [1, 1, 1]
+            rows = [row, [0, 1, 0]]
+            f, m = Poly(ground, row), Matrix(ground, rows)
+            row[0] = 0
+            row.append(1)
+            rows.pop()
+            self.assertEqual(f, Poly(ground, (1, 1, 1)))
+            self.assertEqual(m, Matrix(ground, ((1, 1, 1), (0, 1, 0))))
 
-    def test_no_arguments_are_changed(self):
-        for ground in (Ground(), Ground(2), Ground(31)):
-            for value, twin in zip(every_value(), every_value()):
-                ground.is_member(value)
-                self.assertIs(ground == value, ground == twin)
-                self.assertEqual(states([value]), states([twin]))
+    def test_fields_hold_nothing_that_can_change(self):
+        for value in every_value():
+            if isinstance(value, (Ratio, Residue, Ground, Poly, Matrix)):
+                for field in vars(value).values():
+                    self.assertIsInstance(field, (int, tuple, Ground))
+                    if isinstance(field, tuple):
+                        items = [item for row in field for item in (row if isinstance(row, tuple) else (row,))]
+                        self.assertTrue(all(isinstance(item, (Ratio, Residue)) for item in items))
+
+    def test_answers_are_true_or_false_themselves(self):
+        for ground in GROUNDS:
+            f, m = Poly(ground, (1, 1)), unit(ground, 2)
+            for answer in (f.is_zero(), are_coprime(f, f), m.is_zero(), m.is_square(), ground.is_member(f), f == m,
+                           m == f, ground == f, ground.one() == f, same_span(m, m), span_holds(m, m.rows[0]),
+                           is_integer(f), ground.one().is_zero()):
+                self.assertIsInstance(answer, bool)

@@ -1,0 +1,49 @@
+"""Reduced matrices, ranks, kernels and right sides."""
+
+from similarforms.eliminate import cleared, eliminated, with_unit
+from similarforms.errors import Malformed
+from similarforms.matrix import Matrix
+
+
+def reduced(m):
+    """Return `(r, pivots)`: the reduced matrix with the span of the rows of `m`, and the tuple of its pivots."""
+    done, _, pivots = eliminated(m.rows, m.width)
+    return Matrix(m.ground, done, m.width), tuple(pivots)
+
+
+def rank(m):
+    """Return the rank."""
+    return len(eliminated(m.rows, m.width)[2])
+
+
+def kernel(m):
+    """Return the reduced matrix whose rows span the rows `v` with `v m = 0`."""
+    # What stands beside a row of zeros tells which combination of the rows of m it is.
+    rest = eliminated(with_unit(m.ground, m.rows), m.width)[1]
+    done = eliminated([row[m.width:] for row in rest], len(m))[0]
+    return Matrix(m.ground, done, len(m))
+
+
+def solve(m, w):
+    """Return a row `v` with `v m = w`, or None if there is none; raise Malformed if `w` has another length."""
+    if len(w) != m.width:
+        raise Malformed("the right side does not fit")
+    done, _, pivots = eliminated(with_unit(m.ground, m.rows), m.width)
+    zero = m.ground.zero()
+    left = list(w) + [zero for _ in range(len(m))]
+    for row, pivot in zip(done, pivots):
+        left = cleared(left, row, pivot)
+    if not all([x.is_zero() for x in left[:m.width]]):
+        return None
+    # What was subtracted from w stands behind it, with the other sign.
+    return tuple([-x for x in left[m.width:]])
+
+
+def span_holds(m, w):
+    """Return True if the row `w` is in the span of the rows of `m`; raise Malformed if it has another length."""
+    return solve(m, w) is not None
+
+
+def same_span(a, b):
+    """Return True if the grounds, the widths and the spans of the rows are equal."""
+    return reduced(a)[0] == reduced(b)[0]

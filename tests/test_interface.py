@@ -1,0 +1,74 @@
+"""The names and arguments of the interface, and where they are defined."""
+
+import ast
+import importlib
+import inspect
+import unittest
+from pathlib import Path
+
+import similarforms
+
+FOLDER = Path(similarforms.__file__).resolve().parent
+NUMBER = {"__add__": None, "__sub__": None, "__mul__": None, "__neg__": None, "__eq__": None, "__str__": None,
+          "is_zero": (), "inverse": (), "over": ("b",), "power": ("k",)}
+CLASSES = {
+    ("errors", "Fault"): (None, {}),
+    ("errors", "ZeroDivisor"): (None, {}),
+    ("errors", "Malformed"): (None, {}),
+    ("errors", "Refused"): (("reason",), {}),
+    ("errors", "NoText"): (("at",), {}),
+    ("ratio", "Ratio"): (("n", "d=1"), NUMBER),
+    ("residue", "Residue"): (("p", "n"), NUMBER),
+    ("ground", "Ground"): (("p=0",), {"__eq__": None, "number": ("n", "d=1"), "zero": (), "one": (),
+                                      "is_member": ("value",), "members": (), "read": ("text",)}),
+    ("poly", "Poly"): (("ground", "row"), {
+        "__add__": None, "__sub__": None, "__mul__": None, "__neg__": None, "__floordiv__": None, "__mod__": None,
+        "__eq__": None, "__call__": ("x",), "__str__": None, "degree": (), "is_zero": (), "coefficient": ("k",),
+        "scaled": ("c",), "monic": (), "derivative": (), "power": ("k",)}),
+    ("matrix", "Matrix"): (("ground", "rows", "width=None"), {
+        "__add__": None, "__sub__": None, "__mul__": None, "__neg__": None, "__eq__": None, "__len__": None,
+        "scaled": ("c",), "before": ("row",), "transposed": (), "is_square": (), "is_zero": (), "power": ("k",),
+        "trace": (), "determinant": (), "at": ("f",), "inverse": ()}),
+}
+FUNCTIONS = {
+    ("ratio", "is_integer"): ("value",), ("ground", "taken"): ("ground", "item"),
+    ("divisor", "common_divisor"): ("f", "g"), ("divisor", "common_multiple"): ("f", "g"),
+    ("divisor", "are_coprime"): ("f", "g"), ("divisor", "cofactors"): ("f", "g"),
+    ("divisor", "squarefree_part"): ("f",), ("divisor", "multiplicity"): ("f", "g"),
+    ("matrix", "unit"): ("ground", "n"), ("matrix", "nothing"): ("ground", "height", "width"),
+    ("matrix", "companion"): ("f",), ("matrix", "diagonal"): ("ground", "parts"),
+    ("linear", "reduced"): ("m",), ("linear", "rank"): ("m",), ("linear", "kernel"): ("m",),
+    ("linear", "solve"): ("m", "w"), ("linear", "span_holds"): ("m", "w"), ("linear", "same_span"): ("a", "b"),
+}
+
+
+def told(function):
+    return tuple(str(value) for name, value in inspect.signature(function).parameters.items() if name != "self")
+
+
+def defined_in(module, kind):
+    tree = ast.parse((FOLDER / f"{module}.py").read_text(encoding="ascii"))
+    return [node.name for node in tree.body if isinstance(node, kind)]
+
+
+class InterfaceTest(unittest.TestCase):
+    def test_the_package_defines_nothing(self):
+        self.assertEqual(len(ast.parse((FOLDER / "__init__.py").read_text(encoding="ascii")).body), 1)
+
+    def test_functions(self):
+        for (module, name), parameters in FUNCTIONS.items():
+            with self.subTest(name=name):
+                self.assertIn(name, defined_in(module, ast.FunctionDef))
+                self.assertEqual(told(getattr(importlib.import_module(f"similarforms.{module}"), name)), parameters)
+
+    def test_classes(self):
+        for (module, name), (parameters, methods) in CLASSES.items():
+            with self.subTest(name=name):
+                self.assertIn(name, defined_in(module, ast.ClassDef))
+                kind = getattr(importlib.import_module(f"similarforms.{module}"), name)
+                if parameters is not None:
+                    self.assertEqual(told(kind.__init__), parameters)
+                for method, own in methods.items():
+                    self.assertIn(method, vars(kind))
+                    if own is not None:
+                        self.assertEqual(told(vars(kind)[method]), own)
