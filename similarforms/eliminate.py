@@ -6,6 +6,7 @@ def eliminated(rows, columns):
 
     Returns `(done, rest, pivots)`: the rows with a pivot, in order, reduced in these columns; the rows that have only
     zeros in them; and the list of the pivots. The rows of `done` and `rest` together have the span of all rows.
+    The rows of `rest` are in the order of the given ones, each less a combination of given rows before it.
     """
     done = []
     rest = [list(row) for row in rows]
@@ -26,6 +27,11 @@ def cleared(other, row, column):
     if factor.is_zero():
         return other
     return [x - factor * y for x, y in zip(other, row)]
+
+
+def is_zero_row(row):
+    """Return True if all items are 0, also without items."""
+    return all([x.is_zero() for x in row])
 
 
 def determinant_of(rows, one):

@@ -1,6 +1,6 @@
 """Reduced matrices, ranks, kernels and right sides."""
 
-from similarforms.eliminate import cleared, eliminated, with_unit
+from similarforms.eliminate import cleared, eliminated, is_zero_row, with_unit
 from similarforms.errors import Malformed
 from similarforms.matrix import Matrix
 
@@ -26,14 +26,23 @@ def kernel(m):
 
 def solve(m, w):
     """Return a row `v` with `v m = w`, or None if there is none; raise Malformed if `w` has another length."""
-    if len(w) != m.width:
+    return solve_each(m, (w,))[0]
+
+
+def solve_each(m, sides):
+    """Return the list of what `solve` returns for each one of the right sides."""
+    if not all([len(w) == m.width for w in sides]):
         raise Malformed("the right side does not fit")
     done, _, pivots = eliminated(with_unit(m.ground, m.rows), m.width)
+    return [_combination(m, w, done, pivots) for w in sides]
+
+
+def _combination(m, w, done, pivots):
     zero = m.ground.zero()
     left = list(w) + [zero for _ in range(len(m))]
     for row, pivot in zip(done, pivots):
         left = cleared(left, row, pivot)
-    if not all([x.is_zero() for x in left[:m.width]]):
+    if not is_zero_row(left[:m.width]):
         return None
     # What was subtracted from w stands behind it, with the other sign.
     return tuple([-x for x in left[m.width:]])

@@ -79,12 +79,12 @@ class Matrix:
 
     def power(self, k):
         """Return the power with an exponent from 0 on; raise Malformed if the matrix is not square."""
-        _require_square(self)
+        require_square(self)
         return powered(self, k, unit(self.ground, len(self)))
 
     def trace(self):
         """Return the sum of the items of the diagonal; raise Malformed if the matrix is not square."""
-        _require_square(self)
+        require_square(self)
         total = self.ground.zero()
         for k, row in enumerate(self.rows):
             total = total + row[k]
@@ -92,12 +92,12 @@ class Matrix:
 
     def determinant(self):
         """Return the determinant; raise Malformed if the matrix is not square."""
-        _require_square(self)
+        require_square(self)
         return determinant_of(self.rows, self.ground.one())
 
     def at(self, f):
         """Return the value of the polynomial `f`; raise Malformed if the matrix is not square or the ground unlike."""
-        _require_square(self)
+        require_square(self)
         if self.ground != f.ground:
             raise Malformed("the polynomial has another ground")
         one = unit(self.ground, len(self))
@@ -108,7 +108,7 @@ class Matrix:
 
     def inverse(self):
         """Return the inverse; raise Malformed if the matrix is not square, Refused("singular") if there is none."""
-        _require_square(self)
+        require_square(self)
         done = eliminated(with_unit(self.ground, self.rows), self.width)[0]
         if len(done) < len(self):
             raise Refused("singular")
@@ -165,6 +165,7 @@ def _require_like(a, b):
         raise Malformed("not two matrices over one ground")
 
 
-def _require_square(a):
+def require_square(a):
+    """Raise Malformed if the matrix is not square."""
     if not a.is_square():
         raise Malformed("the matrix is not square")

@@ -5,6 +5,7 @@ import unittest
 from similarforms.divisor import squarefree_part
 from similarforms.ground import Ground
 from similarforms.matrix import Matrix
+from similarforms.minimal import minimal_polynomial
 from similarforms.poly import Poly
 from similarforms.ratio import Ratio
 
@@ -21,3 +22,6 @@ class ExamplesTest(unittest.TestCase):
 
     def test_determinant(self):
         self.assertEqual(Matrix(Ground(5), ((1, 2), (3, 4))).determinant() == Ground(5).number(3), True)
+
+    def test_minimal_polynomial(self):
+        self.assertEqual(minimal_polynomial(Matrix(Ground(), ((2, 0), (0, 2)))).degree(), 1)

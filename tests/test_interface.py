@@ -39,6 +39,15 @@ FUNCTIONS = {
     ("matrix", "companion"): ("f",), ("matrix", "diagonal"): ("ground", "parts"),
     ("linear", "reduced"): ("m",), ("linear", "rank"): ("m",), ("linear", "kernel"): ("m",),
     ("linear", "solve"): ("m", "w"), ("linear", "span_holds"): ("m", "w"), ("linear", "same_span"): ("a", "b"),
+    ("minimal", "annihilator"): ("a", "v"), ("minimal", "minimal_polynomial"): ("a",),
+    ("minimal", "maximal_vector"): ("a",), ("minimal", "joined_row"): ("a", "one", "two"),
+    ("minimal", "krylov"): ("a", "v"), ("minimal", "is_invariant"): ("a", "space"),
+    ("minimal", "krylov_space"): ("a", "space"),
+    ("cyclic", "characteristic_polynomial"): ("a",), ("cyclic", "split_off"): ("a",),
+    ("cyclic", "restricted"): ("a", "space"), ("cyclic", "cyclic_parts"): ("a",),
+    ("form", "invariant_factors"): ("a",), ("form", "frobenius_form"): ("a",), ("form", "frobenius_change"): ("a",),
+    ("similar", "are_similar"): ("a", "b"), ("similar", "find_change"): ("a", "b"),
+    ("similar", "unlike_polynomial"): ("a", "b"), ("similar", "rank_at"): ("a", "g"),
 }
 
 

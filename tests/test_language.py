@@ -11,7 +11,8 @@ from pathlib import Path
 FOLDER = Path(__file__).resolve().parent.parent / "similarforms"
 FILES = sorted(path for path in FOLDER.rglob("*") if "__pycache__" not in path.parts)
 LIBRARY = {("math", "gcd")}
-BUILTINS = set("len range enumerate zip max sum abs int str bool list tuple isinstance all divmod ValueError".split())
+BUILTINS = set("""len range enumerate zip max sum abs int str bool list tuple isinstance all any divmod ValueError
+""".split())
 METHODS = set("append pop join lstrip zfill isascii isdigit startswith partition".split())
 DUNDERS = {f"__{name}__" for name in "init eq str len call add sub mul floordiv mod neg".split()}
 NODES = set("""Module Expr Constant ImportFrom alias ClassDef FunctionDef arguments arg Assign AugAssign Return Raise If

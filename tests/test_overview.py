@@ -3,14 +3,19 @@
 import copy
 import unittest
 
+from similarforms.cyclic import characteristic_polynomial, cyclic_parts, restricted, split_off
 from similarforms.divisor import are_coprime, cofactors, common_divisor, common_multiple, multiplicity, squarefree_part
 from similarforms.errors import Fault
+from similarforms.form import frobenius_change, frobenius_form, invariant_factors
 from similarforms.ground import Ground, taken
 from similarforms.linear import kernel, rank, reduced, same_span, solve, span_holds
 from similarforms.matrix import Matrix, companion, diagonal, nothing, unit
+from similarforms.minimal import (annihilator, is_invariant, joined_row, krylov, krylov_space, maximal_vector,
+                                  minimal_polynomial)
 from similarforms.poly import Poly
 from similarforms.ratio import Ratio, is_integer
 from similarforms.residue import Residue
+from similarforms.similar import are_similar, find_change, rank_at, unlike_polynomial
 from tests.values import GROUNDS, every_value, same_object_state
 
 OPERATORS = {
@@ -19,10 +24,13 @@ OPERATORS = {
     "str": lambda a, b: str(a), "len": lambda a, b: len(a),
 }
 PAIRED = (common_divisor, common_multiple, are_coprime, cofactors, multiplicity)
+OF_ONE_MATRIX = (minimal_polynomial, maximal_vector, characteristic_polynomial, split_off, cyclic_parts,
+                 invariant_factors, frobenius_form, frobenius_change)
+OF_TWO_MATRICES = (is_invariant, krylov_space, restricted, are_similar, find_change, unlike_polynomial)
 
 
 def calls():
-    """Return calls of everything in chapters 1 to 3, as pairs of a function and its arguments."""
+    """Return calls of everything in the package, as pairs of a function and its arguments."""
     found = []
     for ground in GROUNDS:
         numbers = [ground.number(n) for n in (0, 1, 3, -1)]
@@ -40,7 +48,19 @@ def calls():
             found += [(each, (m,)) for each in (reduced, rank, kernel)]
             found += [(each, (m, w)) for each in (solve, span_holds) for w in (numbers[:2], numbers[:3], [])]
             found += [(same_span, (m, other)) for other in matrices]
+        found += calls_of_squares(ground, numbers, polys, matrices)
     return found
+
+
+def calls_of_squares(ground, numbers, polys, matrices):
+    """Return calls of everything in the chapters from 4 on."""
+    squares = matrices + [diagonal(ground, [companion(f.monic()) for f in (polys[2] * polys[3], polys[2])])]
+    rows = [numbers[:2], tuple(numbers[1:3]), numbers, []]
+    found = [(each, (a,)) for each in OF_ONE_MATRIX for a in squares]
+    found += [(each, (a, b)) for each in OF_TWO_MATRICES for a in squares for b in squares]
+    found += [(each, (a, v)) for each in (annihilator, krylov) for a in squares for v in rows]
+    found += [(joined_row, (a, v, w)) for a in squares for v in rows for w in rows]
+    return found + [(rank_at, (a, f)) for a in squares for f in polys]
 
 
 def calls_of_grounds(ground, numbers, matrices):
@@ -103,5 +123,6 @@ class OverviewTest(unittest.TestCase):
             f, m = Poly(ground, (1, 1)), unit(ground, 2)
             for answer in (f.is_zero(), are_coprime(f, f), m.is_zero(), m.is_square(), ground.is_member(f), f == m,
                            m == f, ground == f, ground.one() == f, same_span(m, m), span_holds(m, m.rows[0]),
-                           is_integer(f), ground.one().is_zero()):
+                           is_integer(f), ground.one().is_zero(), is_invariant(m, m), are_similar(m, m),
+                           are_similar(m, unit(ground, 3))):
                 self.assertIsInstance(answer, bool)
