@@ -4,15 +4,12 @@ from similarforms.errors import Malformed, Refused
 from similarforms.linear import kernel, rank, solve, solve_each
 from similarforms.matrix import Matrix, require_square, unit
 from similarforms.minimal import annihilator, images, krylov, maximal_vector, require_rows
-from similarforms.poly import Poly
+from similarforms.poly import product_of
 
 
 def characteristic_polynomial(a):
     """Return the characteristic polynomial; raise Malformed if the matrix is not square."""
-    result = Poly(a.ground, (1,))
-    for f in polynomials_of(a, cyclic_parts(a)):
-        result = result * f
-    return result
+    return product_of(a.ground, polynomials_of(a, cyclic_parts(a)))
 
 
 def polynomials_of(a, parts):
@@ -63,3 +60,8 @@ def cyclic_parts(a):
         space = rest * space
         left = restricted(left, rest)
     return tuple(parts)
+
+
+def basis_of(a, parts):
+    """Return the Matrix with the rows of the cyclic parts of `a`, in order."""
+    return Matrix(a.ground, [row for part in parts for row in part.rows], len(a))

@@ -1,7 +1,7 @@
 """Invariant factors and the Frobenius form."""
 
-from similarforms.cyclic import cyclic_parts, polynomials_of
-from similarforms.matrix import Matrix, companion, diagonal
+from similarforms.cyclic import basis_of, cyclic_parts, polynomials_of
+from similarforms.matrix import companion, diagonal
 
 
 def invariant_factors(a):
@@ -19,7 +19,7 @@ def frobenius_change(a):
     parts = cyclic_parts(a)
     form = _form_with(a.ground, polynomials_of(a, parts))
     # In each part A sends a row to the next one, and the last one to what the last row of the companion tells.
-    return form, Matrix(a.ground, [row for part in parts for row in part.rows], len(a))
+    return form, basis_of(a, parts)
 
 
 def _form_with(ground, factors):

@@ -93,6 +93,14 @@ def require_like(f, g):
         raise Malformed("not two polynomials over one ground")
 
 
+def product_of(ground, factors):
+    """Return the product of polynomials over the ground, which is 1 if there are none."""
+    total = Poly(ground, (1,))
+    for f in factors:
+        total = total * f
+    return total
+
+
 def _divided(f, g):
     """Return the quotient and the remainder."""
     require_like(f, g)

@@ -6,6 +6,7 @@ from similarforms.divisor import squarefree_part
 from similarforms.ground import Ground
 from similarforms.matrix import Matrix
 from similarforms.minimal import minimal_polynomial
+from similarforms.parts import jordan_sizes
 from similarforms.poly import Poly
 from similarforms.ratio import Ratio
 
@@ -25,3 +26,7 @@ class ExamplesTest(unittest.TestCase):
 
     def test_minimal_polynomial(self):
         self.assertEqual(minimal_polynomial(Matrix(Ground(), ((2, 0), (0, 2)))).degree(), 1)
+
+    def test_jordan_sizes(self):
+        a = Matrix(Ground(), ((2, 1, 0), (0, 2, 0), (0, 0, 2)))
+        self.assertEqual(jordan_sizes(a, Ground().number(2)), (2, 1))

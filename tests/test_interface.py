@@ -29,6 +29,9 @@ CLASSES = {
         "__add__": None, "__sub__": None, "__mul__": None, "__neg__": None, "__eq__": None, "__len__": None,
         "scaled": ("c",), "before": ("row",), "transposed": (), "is_square": (), "is_zero": (), "power": ("k",),
         "trace": (), "determinant": (), "at": ("f",), "inverse": ()}),
+    ("plant", "Plant"): (("a", "b", "c"), {
+        "__eq__": None, "size": (), "after": ("x", "u"), "markov": ("k",), "outputs": ("inputs",), "changed": ("p",),
+        "fed": ("k",)}),
 }
 FUNCTIONS = {
     ("ratio", "is_integer"): ("value",), ("ground", "taken"): ("ground", "item"),
@@ -48,6 +51,14 @@ FUNCTIONS = {
     ("form", "invariant_factors"): ("a",), ("form", "frobenius_form"): ("a",), ("form", "frobenius_change"): ("a",),
     ("similar", "are_similar"): ("a", "b"), ("similar", "find_change"): ("a", "b"),
     ("similar", "unlike_polynomial"): ("a", "b"), ("similar", "rank_at"): ("a", "g"),
+    ("commuting", "intertwiners"): ("a", "b"), ("commuting", "commutant"): ("a",),
+    ("commuting", "intertwiner_dimension"): ("a", "b"), ("commuting", "commutant_dimension"): ("a",),
+    ("commuting", "commute"): ("a", "b"), ("commuting", "polynomial_of"): ("a", "x"),
+    ("commuting", "is_cyclic"): ("a",),
+    ("parts", "kernel_part"): ("a", "f"), ("parts", "projections"): ("a", "factors"), ("parts", "fitting"): ("a",),
+    ("parts", "is_nilpotent"): ("a",), ("parts", "eigenvalues"): ("a",), ("parts", "jordan_sizes"): ("a", "c"),
+    ("summands", "is_semisimple"): ("a",), ("summands", "summands"): ("a",),
+    ("summands", "summand_polynomial"): ("a",),
 }
 
 

@@ -10,14 +10,14 @@ from pathlib import Path
 
 FOLDER = Path(__file__).resolve().parent.parent / "similarforms"
 FILES = sorted(path for path in FOLDER.rglob("*") if "__pycache__" not in path.parts)
-LIBRARY = {("math", "gcd")}
-BUILTINS = set("""len range enumerate zip max sum abs int str bool list tuple isinstance all any divmod ValueError
-""".split())
+LIBRARY = {("math", "gcd"), ("math", "isqrt"), ("math", "lcm")}
+BUILTINS = set("""len range enumerate zip max sum abs int str bool list tuple isinstance all any divmod sorted
+ValueError""".split())
 METHODS = set("append pop join lstrip zfill isascii isdigit startswith partition".split())
 DUNDERS = {f"__{name}__" for name in "init eq str len call add sub mul floordiv mod neg".split()}
 NODES = set("""Module Expr Constant ImportFrom alias ClassDef FunctionDef arguments arg Assign AugAssign Return Raise If
-While For IfExp ListComp comprehension Name Attribute Call Subscript Slice Tuple List Load Store BinOp UnaryOp BoolOp
-Compare JoinedStr FormattedValue Add Sub Mult FloorDiv Mod Pow USub Not And Or Eq NotEq Lt LtE Gt GtE Is IsNot In
+While For IfExp ListComp SetComp comprehension Name Attribute Call Subscript Slice Tuple List Load Store BinOp UnaryOp
+BoolOp Compare JoinedStr FormattedValue Add Sub Mult FloorDiv Mod Pow USub Not And Or Eq NotEq Lt LtE Gt GtE Is IsNot In
 """.split())
 WORDS = set("""register mro elements open input law version_info with_traceback add_note type typing enum Enum Flag
 Generic Protocol ABC namedtuple attrgetter breakpoint compile dir eval exec exit gc getattr globals hasattr help id

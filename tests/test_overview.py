@@ -3,6 +3,8 @@
 import copy
 import unittest
 
+from similarforms.commuting import (commutant, commutant_dimension, commute, intertwiner_dimension, intertwiners,
+                                    is_cyclic, polynomial_of)
 from similarforms.cyclic import characteristic_polynomial, cyclic_parts, restricted, split_off
 from similarforms.divisor import are_coprime, cofactors, common_divisor, common_multiple, multiplicity, squarefree_part
 from similarforms.errors import Fault
@@ -12,10 +14,13 @@ from similarforms.linear import kernel, rank, reduced, same_span, solve, span_ho
 from similarforms.matrix import Matrix, companion, diagonal, nothing, unit
 from similarforms.minimal import (annihilator, is_invariant, joined_row, krylov, krylov_space, maximal_vector,
                                   minimal_polynomial)
+from similarforms.parts import eigenvalues, fitting, is_nilpotent, jordan_sizes, kernel_part, projections
+from similarforms.plant import Plant
 from similarforms.poly import Poly
 from similarforms.ratio import Ratio, is_integer
 from similarforms.residue import Residue
 from similarforms.similar import are_similar, find_change, rank_at, unlike_polynomial
+from similarforms.summands import is_semisimple, summand_polynomial, summands
 from tests.values import GROUNDS, every_value, same_object_state
 
 OPERATORS = {
@@ -25,8 +30,10 @@ OPERATORS = {
 }
 PAIRED = (common_divisor, common_multiple, are_coprime, cofactors, multiplicity)
 OF_ONE_MATRIX = (minimal_polynomial, maximal_vector, characteristic_polynomial, split_off, cyclic_parts,
-                 invariant_factors, frobenius_form, frobenius_change)
-OF_TWO_MATRICES = (is_invariant, krylov_space, restricted, are_similar, find_change, unlike_polynomial)
+                 invariant_factors, frobenius_form, frobenius_change, commutant, commutant_dimension, is_cyclic,
+                 fitting, is_nilpotent, eigenvalues, is_semisimple, summands, summand_polynomial)
+OF_TWO_MATRICES = (is_invariant, krylov_space, restricted, are_similar, find_change, unlike_polynomial, intertwiners,
+                   intertwiner_dimension, commute, polynomial_of)
 
 
 def calls():
@@ -60,7 +67,16 @@ def calls_of_squares(ground, numbers, polys, matrices):
     found += [(each, (a, b)) for each in OF_TWO_MATRICES for a in squares for b in squares]
     found += [(each, (a, v)) for each in (annihilator, krylov) for a in squares for v in rows]
     found += [(joined_row, (a, v, w)) for a in squares for v in rows for w in rows]
-    return found + [(rank_at, (a, f)) for a in squares for f in polys]
+    found += [(each, (a, f)) for each in (rank_at, kernel_part) for a in squares for f in polys]
+    found += [(jordan_sizes, (a, c)) for a in squares for c in numbers + [1]]
+    found += [(projections, (a, factors)) for a in squares for factors in (polys, polys[2:3], (polys[2], polys[3]), [])]
+    return found + calls_of_plants(squares, numbers)
+
+
+def calls_of_plants(squares, numbers):
+    found = [(Plant, (a, row, list(row))) for a in squares for row in (numbers[:2], [1, 2], (), [0, 1, 0])]
+    plants = [Plant(a, [1] * len(a), numbers[:len(a)]) for a in squares if a.is_square() and len(a) < 4]
+    return found + calls_of_methods(plants, [2, numbers[1], numbers[:2], [1, 0], squares[1], squares[2]])
 
 
 def calls_of_grounds(ground, numbers, matrices):
@@ -75,7 +91,7 @@ def calls_of_grounds(ground, numbers, matrices):
 def calls_of_methods(own, arguments):
     """Return calls of all operators and methods of objects of one class, with arguments of many kinds."""
     found = [(operator, (a, b)) for name, operator in OPERATORS.items() for a in own for b in own
-             if name != "str" or not isinstance(a, Matrix)]
+             if name != "str" or not isinstance(a, (Matrix, Plant))]
     names = [name for name in vars(type(own[0])) if not name.startswith("_")]
     found += [(getattr(type(a), name), (a,)) for a in own for name in names]
     return found + [(getattr(type(a), name), (a, b)) for a in own for name in names for b in arguments]
@@ -109,11 +125,19 @@ class OverviewTest(unittest.TestCase):
             self.assertEqual(f, Poly(ground, (1, 1, 1)))
             self.assertEqual(m, Matrix(ground, ((1, 1, 1), (0, 1, 0))))
 
+    def test_plants_do_not_follow_the_lists_that_they_were_made_of(self):
+        for ground in GROUNDS:
+            row, column = [1, 0], [0, 1]
+            plant = Plant(unit(ground, 2), row, column)
+            row[0], column[0] = 0, 1
+            row.append(1)
+            self.assertEqual(plant, Plant(unit(ground, 2), (1, 0), (0, 1)))
+
     def test_fields_hold_nothing_that_can_change(self):
         for value in every_value():
-            if isinstance(value, (Ratio, Residue, Ground, Poly, Matrix)):
+            if isinstance(value, (Ratio, Residue, Ground, Poly, Matrix, Plant)):
                 for field in vars(value).values():
-                    self.assertIsInstance(field, (int, tuple, Ground))
+                    self.assertIsInstance(field, (int, tuple, Ground, Matrix))
                     if isinstance(field, tuple):
                         items = [item for row in field for item in (row if isinstance(row, tuple) else (row,))]
                         self.assertTrue(all(isinstance(item, (Ratio, Residue)) for item in items))
@@ -124,5 +148,6 @@ class OverviewTest(unittest.TestCase):
             for answer in (f.is_zero(), are_coprime(f, f), m.is_zero(), m.is_square(), ground.is_member(f), f == m,
                            m == f, ground == f, ground.one() == f, same_span(m, m), span_holds(m, m.rows[0]),
                            is_integer(f), ground.one().is_zero(), is_invariant(m, m), are_similar(m, m),
-                           are_similar(m, unit(ground, 3))):
+                           are_similar(m, unit(ground, 3)), commute(m, m), is_cyclic(m), is_nilpotent(m),
+                           is_semisimple(m), Plant(m, (1, 1), (1, 1)) == m):
                 self.assertIsInstance(answer, bool)

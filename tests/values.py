@@ -4,6 +4,7 @@ from fractions import Fraction
 
 from similarforms.ground import Ground
 from similarforms.matrix import Matrix
+from similarforms.plant import Plant
 from similarforms.poly import Poly
 from similarforms.ratio import Ratio
 from similarforms.residue import Residue
@@ -22,6 +23,7 @@ def every_value():
         Ground(), Ground(2), Ground(31), Poly(Ground(), ()), Poly(Ground(3), (1, 2)),
         Matrix(Ground(), ()), Matrix(Ground(2), ((1, 0), (0, 1))),
         [Ratio(1), Residue(2, 1)], (Residue(2, 1), Residue(3, 1)),
+        Plant(Matrix(Ground(), ()), (), ()), Plant(Matrix(Ground(2), ((1,),)), (1,), (0,)),
     ]
 
 
@@ -54,7 +56,7 @@ def some_poly(ground, degree, source):
 
 def same_object_state(value):
     """Return all that an object of the program is made of, as plain values, to compare it later."""
-    if isinstance(value, (Ratio, Residue, Ground, Poly, Matrix)):
+    if isinstance(value, (Ratio, Residue, Ground, Poly, Matrix, Plant)):
         return (type(value).__name__, tuple((k, same_object_state(v)) for k, v in sorted(vars(value).items())))
     if isinstance(value, (list, tuple)):
         return (type(value).__name__, tuple(same_object_state(item) for item in value))
