@@ -6,7 +6,7 @@ from similarforms.eliminate import eliminated
 from similarforms.errors import Malformed
 from similarforms.form import invariant_factors
 from similarforms.linear import kernel, solve
-from similarforms.matrix import Matrix, require_square
+from similarforms.matrix import Matrix, require_squares
 from similarforms.minimal import images, krylov, maximal_vector, minimal_polynomial
 from similarforms.poly import Poly
 
@@ -15,7 +15,7 @@ from similarforms.poly import Poly
 
 def intertwiners(a, b):
     """Return the basis of the matrices `X` with `A X = X B` whose rows of items are a reduced matrix, in this order."""
-    _require_squares(a, b)
+    require_squares(a, b)
     parts = cyclic_parts(a)
     back = basis_of(a, parts).inverse()
     told = [back * y for y in _from_form(a, b, polynomials_of(a, parts))]
@@ -31,7 +31,7 @@ def commutant(a):
 
 def intertwiner_dimension(a, b):
     """Return the dimension of the space of `intertwiners`, by the invariant factors."""
-    _require_squares(a, b)
+    require_squares(a, b)
     others = invariant_factors(b)
     return sum([common_divisor(f, g).degree() for f in invariant_factors(a) for g in others])
 
@@ -91,14 +91,7 @@ def _folded(a, b, row):
     return Matrix(a.ground, [row[k * width:(k + 1) * width] for k in range(len(a))], width)
 
 
-def _require_squares(a, b):
-    require_square(a)
-    require_square(b)
-    if a.ground != b.ground:
-        raise Malformed("the grounds are unlike")
-
-
 def _require_one_size(a, b):
-    _require_squares(a, b)
+    require_squares(a, b)
     if len(a) != len(b):
         raise Malformed("the sizes are unlike")

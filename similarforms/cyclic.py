@@ -1,9 +1,9 @@
 """Splitting a matrix into cyclic parts, and its characteristic polynomial."""
 
 from similarforms.errors import Malformed, Refused
-from similarforms.linear import kernel, rank, solve, solve_each
+from similarforms.linear import kernel, last_column, rank, solve_each
 from similarforms.matrix import Matrix, require_square, unit
-from similarforms.minimal import annihilator, images, krylov, maximal_vector, require_rows
+from similarforms.minimal import annihilator, column_images, krylov, maximal_vector, require_rows
 from similarforms.poly import product_of
 
 
@@ -27,9 +27,7 @@ def split_off(a):
         raise Refused("empty")
     part = krylov(a, maximal_vector(a))
     # The column meets the last row of the part alone, so only 0 in the part meets none of the column's images.
-    column = solve(part.transposed(), unit(a.ground, len(part)).rows[-1])
-    columns = Matrix(a.ground, images(a.transposed(), column, len(part)))
-    return part, kernel(columns.transposed())
+    return part, kernel(column_images(a, last_column(part), len(part)))
 
 
 def restricted(a, space):

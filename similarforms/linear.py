@@ -2,7 +2,7 @@
 
 from similarforms.eliminate import cleared, eliminated, is_zero_row, with_unit
 from similarforms.errors import Malformed
-from similarforms.matrix import Matrix
+from similarforms.matrix import Matrix, unit
 
 
 def reduced(m):
@@ -35,6 +35,14 @@ def solve_each(m, sides):
         raise Malformed("the right side does not fit")
     done, _, pivots = eliminated(with_unit(m.ground, m.rows), m.width)
     return [_combination(m, w, done, pivots) for w in sides]
+
+
+def last_column(m):
+    """Return a column whose product with the last row of `m` is 1, and 0 with each other one.
+
+    The rows are independent, and there is one at least.
+    """
+    return solve(m.transposed(), unit(m.ground, len(m)).rows[-1])
 
 
 def _combination(m, w, done, pivots):

@@ -169,3 +169,11 @@ def require_square(a):
     """Raise Malformed if the matrix is not square."""
     if not a.is_square():
         raise Malformed("the matrix is not square")
+
+
+def require_squares(a, b):
+    """Raise Malformed if one of two matrices is not square, or the grounds are unlike."""
+    require_square(a)
+    require_square(b)
+    if a.ground != b.ground:
+        raise Malformed("the grounds are unlike")

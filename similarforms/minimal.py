@@ -13,9 +13,7 @@ from similarforms.poly import Poly
 def annihilator(a, v):
     """Return the minimal polynomial of the row `v`."""
     _require_row(a, v)
-    # The first of these rows that is left without a pivot is the first one that depends on those before it.
-    rest = eliminated(with_unit(a.ground, images(a, v, len(a) + 1)), len(a))[1]
-    return Poly(a.ground, rest[0][len(a):])
+    return first_relation(a.ground, images(a, v, len(a) + 1))
 
 
 def minimal_polynomial(a):
@@ -52,6 +50,22 @@ def krylov_space(a, space):
     # No row has a minimal polynomial of a degree above the size, so later images give nothing new.
     rows = [image for row in space.rows for image in images(a, row, len(a))]
     return Matrix(a.ground, eliminated(rows, len(a))[0], len(a))
+
+
+def first_relation(ground, rows):
+    """Return the monic polynomial of least degree whose coefficients times the rows, in order, have the sum 0.
+
+    The rows are more than the items of each one.
+    """
+    width = len(rows[0])
+    # The first of the rows that is left without a pivot is the first one that depends on those before it.
+    rest = eliminated(with_unit(ground, rows), width)[1]
+    return Poly(ground, rest[0][width:])
+
+
+def column_images(a, w, count):
+    """Return the Matrix with the first `count` columns of `w, A w, A^2 w, ..`."""
+    return Matrix(a.ground, images(a.transposed(), w, count), len(a)).transposed()
 
 
 def images(a, v, count):

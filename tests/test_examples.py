@@ -7,8 +7,10 @@ from similarforms.ground import Ground
 from similarforms.matrix import Matrix
 from similarforms.minimal import minimal_polynomial
 from similarforms.parts import jordan_sizes
+from similarforms.plant import Plant
 from similarforms.poly import Poly
 from similarforms.ratio import Ratio
+from similarforms.reach import four_sizes
 
 
 class ExamplesTest(unittest.TestCase):
@@ -30,3 +32,6 @@ class ExamplesTest(unittest.TestCase):
     def test_jordan_sizes(self):
         a = Matrix(Ground(), ((2, 1, 0), (0, 2, 0), (0, 0, 2)))
         self.assertEqual(jordan_sizes(a, Ground().number(2)), (2, 1))
+
+    def test_four_sizes(self):
+        self.assertEqual(four_sizes(Plant(Matrix(Ground(), ((1, 0), (0, 2))), (1, 1), (1, 0))), (1, 1, 0, 0))

@@ -59,6 +59,13 @@ FUNCTIONS = {
     ("parts", "is_nilpotent"): ("a",), ("parts", "eigenvalues"): ("a",), ("parts", "jordan_sizes"): ("a", "c"),
     ("summands", "is_semisimple"): ("a",), ("summands", "summands"): ("a",),
     ("summands", "summand_polynomial"): ("a",),
+    ("reach", "reachable_space"): ("plant",), ("reach", "unobservable_space"): ("plant",),
+    ("reach", "is_reachable"): ("plant",), ("reach", "is_observable"): ("plant",), ("reach", "four_sizes"): ("plant",),
+    ("realize", "least_recurrence"): ("plant",), ("realize", "minimal_realization"): ("plant",),
+    ("realize", "same_outputs"): ("one", "two"), ("realize", "state_change"): ("one", "two"),
+    ("feedback", "fixed_polynomial"): ("plant",), ("feedback", "feedback"): ("plant", "f"),
+    ("papers", "rank_paper"): ("m",), ("papers", "minimal_paper"): ("a",), ("papers", "pair_paper"): ("a", "b"),
+    ("papers", "form_paper"): ("a",),
 }
 
 

@@ -8,16 +8,20 @@ from similarforms.commuting import (commutant, commutant_dimension, commute, int
 from similarforms.cyclic import characteristic_polynomial, cyclic_parts, restricted, split_off
 from similarforms.divisor import are_coprime, cofactors, common_divisor, common_multiple, multiplicity, squarefree_part
 from similarforms.errors import Fault
+from similarforms.feedback import feedback, fixed_polynomial
 from similarforms.form import frobenius_change, frobenius_form, invariant_factors
 from similarforms.ground import Ground, taken
 from similarforms.linear import kernel, rank, reduced, same_span, solve, span_holds
 from similarforms.matrix import Matrix, companion, diagonal, nothing, unit
 from similarforms.minimal import (annihilator, is_invariant, joined_row, krylov, krylov_space, maximal_vector,
                                   minimal_polynomial)
+from similarforms.papers import form_paper, minimal_paper, pair_paper, rank_paper
 from similarforms.parts import eigenvalues, fitting, is_nilpotent, jordan_sizes, kernel_part, projections
 from similarforms.plant import Plant
 from similarforms.poly import Poly
 from similarforms.ratio import Ratio, is_integer
+from similarforms.reach import four_sizes, is_observable, is_reachable, reachable_space, unobservable_space
+from similarforms.realize import least_recurrence, minimal_realization, same_outputs, state_change
 from similarforms.residue import Residue
 from similarforms.similar import are_similar, find_change, rank_at, unlike_polynomial
 from similarforms.summands import is_semisimple, summand_polynomial, summands
@@ -31,9 +35,13 @@ OPERATORS = {
 PAIRED = (common_divisor, common_multiple, are_coprime, cofactors, multiplicity)
 OF_ONE_MATRIX = (minimal_polynomial, maximal_vector, characteristic_polynomial, split_off, cyclic_parts,
                  invariant_factors, frobenius_form, frobenius_change, commutant, commutant_dimension, is_cyclic,
-                 fitting, is_nilpotent, eigenvalues, is_semisimple, summands, summand_polynomial)
+                 fitting, is_nilpotent, eigenvalues, is_semisimple, summands, summand_polynomial, rank_paper,
+                 minimal_paper, form_paper)
 OF_TWO_MATRICES = (is_invariant, krylov_space, restricted, are_similar, find_change, unlike_polynomial, intertwiners,
-                   intertwiner_dimension, commute, polynomial_of)
+                   intertwiner_dimension, commute, polynomial_of, pair_paper)
+OF_ONE_PLANT = (reachable_space, unobservable_space, is_reachable, is_observable, four_sizes, least_recurrence,
+                minimal_realization, fixed_polynomial)
+OF_TWO_PLANTS = (same_outputs, state_change)
 
 
 def calls():
@@ -70,12 +78,15 @@ def calls_of_squares(ground, numbers, polys, matrices):
     found += [(each, (a, f)) for each in (rank_at, kernel_part) for a in squares for f in polys]
     found += [(jordan_sizes, (a, c)) for a in squares for c in numbers + [1]]
     found += [(projections, (a, factors)) for a in squares for factors in (polys, polys[2:3], (polys[2], polys[3]), [])]
-    return found + calls_of_plants(squares, numbers)
+    return found + calls_of_plants(squares, numbers, polys)
 
 
-def calls_of_plants(squares, numbers):
+def calls_of_plants(squares, numbers, polys):
     found = [(Plant, (a, row, list(row))) for a in squares for row in (numbers[:2], [1, 2], (), [0, 1, 0])]
     plants = [Plant(a, [1] * len(a), numbers[:len(a)]) for a in squares if a.is_square() and len(a) < 4]
+    found += [(each, (plant,)) for each in OF_ONE_PLANT for plant in plants]
+    found += [(each, (one, two)) for each in OF_TWO_PLANTS for one in plants for two in plants]
+    found += [(feedback, (plant, f)) for plant in plants for f in polys + [f.monic() for f in polys]]
     return found + calls_of_methods(plants, [2, numbers[1], numbers[:2], [1, 0], squares[1], squares[2]])
 
 
@@ -149,5 +160,7 @@ class OverviewTest(unittest.TestCase):
                            m == f, ground == f, ground.one() == f, same_span(m, m), span_holds(m, m.rows[0]),
                            is_integer(f), ground.one().is_zero(), is_invariant(m, m), are_similar(m, m),
                            are_similar(m, unit(ground, 3)), commute(m, m), is_cyclic(m), is_nilpotent(m),
-                           is_semisimple(m), Plant(m, (1, 1), (1, 1)) == m):
+                           is_semisimple(m), Plant(m, (1, 1), (1, 1)) == m, is_reachable(Plant(m, (1, 1), (1, 1))),
+                           is_observable(Plant(m, (1, 1), (1, 1))),
+                           same_outputs(Plant(m, (1, 1), (1, 1)), Plant(m, (1, 0), (1, 1)))):
                 self.assertIsInstance(answer, bool)

@@ -11,29 +11,8 @@ from similarforms.minimal import krylov
 from similarforms.plant import Plant
 from similarforms.ratio import Ratio
 from similarforms.residue import Residue
-from tests.samples import not_square, rows_that_do_not_fit, squares, unlike_grounds
+from tests.samples import dot, not_square, plants, rows_that_do_not_fit, told_markov, unlike_grounds
 from tests.values import GROUNDS, every_value, some, some_matrix, some_row
-
-
-def plants(ground, source):
-    return [Plant(a, some_row(ground, len(a), source), some_row(ground, len(a), source))
-            for a in squares(ground, source)]
-
-
-def dot(ground, row, column):
-    total = ground.zero()
-    for x, y in zip(row, column):
-        total = total + x * y
-    return total
-
-
-def told_markov(plant, many):
-    """Return the first Markov parameters by columns: A w has the products of the rows of A and w."""
-    ground, column, found = plant.a.ground, plant.c, []
-    for _ in range(many):
-        found.append(dot(ground, plant.b, column))
-        column = tuple(dot(ground, row, column) for row in plant.a.rows)
-    return found
 
 
 class Base(unittest.TestCase):
