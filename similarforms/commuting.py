@@ -6,8 +6,8 @@ from similarforms.eliminate import eliminated
 from similarforms.errors import Malformed
 from similarforms.form import invariant_factors
 from similarforms.linear import kernel, solve
-from similarforms.matrix import Matrix, require_squares
-from similarforms.minimal import images, krylov, maximal_vector, minimal_polynomial
+from similarforms.matrix import Matrix, images, require_squares
+from similarforms.minimal import krylov, maximal_vector, minimal_polynomial
 from similarforms.poly import Poly
 
 # All functions raise Malformed if a matrix is not square, or the grounds are unlike.

@@ -57,12 +57,7 @@ class Matrix:
         """Return the product of a row and the matrix; raise Malformed if the row has another length."""
         if len(row) != len(self):
             raise Malformed("the row does not fit")
-        zero = self.ground.zero()
-        total = [zero for _ in range(self.width)]
-        for factor, mine in zip(row, self.rows):
-            if not factor.is_zero():
-                total = [x + factor * y for x, y in zip(total, mine)]
-        return tuple(total)
+        return combination(self.ground, row, self.rows, self.width)
 
     def transposed(self):
         """Return the transposed matrix; raise Refused("large") for more than 8 columns."""
@@ -144,6 +139,26 @@ def diagonal(ground, parts):
         right = [0] * (size - len(rows) - len(part))
         rows = rows + [left + list(row) + right for row in part.rows]
     return Matrix(ground, rows, size)
+
+
+def combination(ground, factors, rows, width):
+    """Return the sum of the rows, of this width, times as many numbers."""
+    zero = ground.zero()
+    total = [zero for _ in range(width)]
+    for factor, row in zip(factors, rows):
+        if not factor.is_zero():
+            total = [x + factor * y for x, y in zip(total, row)]
+    return tuple(total)
+
+
+def images(a, v, count):
+    """Return the list of the first `count` rows of `v, v A, v A^2, ..`."""
+    rows = []
+    row = tuple(v)
+    for _ in range(count):
+        rows.append(row)
+        row = a.before(row)
+    return rows
 
 
 def _taken_rows(ground, rows):

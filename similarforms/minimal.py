@@ -4,7 +4,7 @@ from similarforms.divisor import common_divisor, common_multiple
 from similarforms.eliminate import eliminated, is_zero_row, with_unit
 from similarforms.errors import Malformed
 from similarforms.linear import solve_each
-from similarforms.matrix import Matrix, require_square, unit
+from similarforms.matrix import Matrix, images, require_square, unit
 from similarforms.poly import Poly
 
 # Each public function that takes rows raises Malformed if the matrix is not square or a row is none of its rows.
@@ -66,16 +66,6 @@ def first_relation(ground, rows):
 def column_images(a, w, count):
     """Return the Matrix with the first `count` columns of `w, A w, A^2 w, ..`."""
     return Matrix(a.ground, images(a.transposed(), w, count), len(a)).transposed()
-
-
-def images(a, v, count):
-    """Return the list of the first `count` rows of `v, v A, v A^2, ..`."""
-    rows = []
-    row = tuple(v)
-    for _ in range(count):
-        rows.append(row)
-        row = a.before(row)
-    return rows
 
 
 def row_at(a, v, f):

@@ -4,7 +4,7 @@ from similarforms.cyclic import basis_of, cyclic_parts, polynomials_of
 from similarforms.linear import reduced, solve_each
 from similarforms.matrix import Matrix, require_squares, unit
 from similarforms.minimal import annihilator, krylov, maximal_vector
-from similarforms.similar import find_change, unlike_polynomial
+from similarforms.similar import change_or_polynomial
 
 
 def rank_paper(m):
@@ -34,10 +34,9 @@ def pair_paper(a, b):
     require_squares(a, b)
     if len(a) != len(b):
         return ("sizes",)
-    p = find_change(a, b)
+    p, g = change_or_polynomial(a, b)
     if p is not None:
         return "similar", p.rows, p.inverse().rows
-    g = unlike_polynomial(a, b)
     return "unlike", g.row, rank_paper(a.at(g)), rank_paper(b.at(g))
 
 

@@ -1,7 +1,8 @@
 """Similarity of two matrices."""
 
+from similarforms.cyclic import basis_of, cyclic_parts, polynomials_of
 from similarforms.errors import Malformed
-from similarforms.form import frobenius_change, invariant_factors
+from similarforms.form import invariant_factors
 from similarforms.linear import rank
 
 
@@ -12,10 +13,7 @@ def are_similar(a, b):
 
 def find_change(a, b):
     """Return a Matrix `P` with an inverse and `P A = B P`, or None; raise Malformed as `unlike_polynomial`."""
-    _require_alike(a, b)
-    form, p = frobenius_change(a)
-    other, q = frobenius_change(b)
-    return q.inverse() * p if form == other else None
+    return change_or_polynomial(a, b)[0]
 
 
 def unlike_polynomial(a, b):
@@ -23,11 +21,19 @@ def unlike_polynomial(a, b):
 
     Raises Malformed if they are not square of one size over equal grounds.
     """
+    return change_or_polynomial(a, b)[1]
+
+
+def change_or_polynomial(a, b):
+    """Return the pair of what `find_change` and `unlike_polynomial` return, one of which is None."""
     _require_alike(a, b)
-    for f, g in zip(invariant_factors(a), invariant_factors(b)):
+    one = cyclic_parts(a)
+    two = cyclic_parts(b)
+    for f, g in zip(polynomials_of(a, one), polynomials_of(b, two)):
         if f != g:
-            return f if rank_at(a, f) != rank_at(b, f) else g
-    return None
+            return None, (f if rank_at(a, f) != rank_at(b, f) else g)
+    # In these two bases both matrices have the same form.
+    return basis_of(b, two).inverse() * basis_of(a, one), None
 
 
 def rank_at(a, g):

@@ -2,6 +2,7 @@
 
 import unittest
 
+from similarforms.console import Console
 from similarforms.divisor import squarefree_part
 from similarforms.ground import Ground
 from similarforms.matrix import Matrix
@@ -35,3 +36,8 @@ class ExamplesTest(unittest.TestCase):
 
     def test_four_sizes(self):
         self.assertEqual(four_sizes(Plant(Matrix(Ground(), ((1, 0), (0, 2))), (1, 1), (1, 0))), (1, 1, 0, 0))
+
+    def test_console(self):
+        console = Console()
+        self.assertEqual(console.enter("let a = q: 0 1; -1 0").kind, "matrix")
+        self.assertEqual(console.enter("minimal a").text, "(1)*x^2 + (1)")

@@ -32,6 +32,9 @@ CLASSES = {
     ("plant", "Plant"): (("a", "b", "c"), {
         "__eq__": None, "size": (), "after": ("x", "u"), "markov": ("k",), "outputs": ("inputs",), "changed": ("p",),
         "fed": ("k",)}),
+    ("replies", "Reply"): (("kind", "text=''", "data=()"), {"__eq__": None}),
+    ("console", "Console"): (("most=300",), {"enter": ("line",), "__len__": None, "__iter__": None, "names": (),
+                                             "log": ()}),
 }
 FUNCTIONS = {
     ("ratio", "is_integer"): ("value",), ("ground", "taken"): ("ground", "item"),
@@ -66,6 +69,13 @@ FUNCTIONS = {
     ("feedback", "fixed_polynomial"): ("plant",), ("feedback", "feedback"): ("plant", "f"),
     ("papers", "rank_paper"): ("m",), ("papers", "minimal_paper"): ("a",), ("papers", "pair_paper"): ("a", "b"),
     ("papers", "form_paper"): ("a",),
+    ("checker", "takes_rank"): ("m", "paper"), ("checker", "takes_minimal"): ("a", "paper"),
+    ("checker", "takes_pair"): ("a", "b", "paper"), ("checker", "takes_form"): ("a", "paper"),
+    ("sheet", "matrix_text"): ("m",), ("sheet", "read_matrix"): ("text",), ("sheet", "read_line"): ("line",),
+    ("replies", "reply_to"): ("names", "line"), ("replies", "defined"): ("names", "line"),
+    ("replies", "is_right"): ("names", "entry"),
+    ("log", "write_data"): ("data",), ("log", "read_data"): ("text",), ("log", "write_log"): ("entries",),
+    ("log", "read_log"): ("text",), ("log", "first_wrong"): ("entries",),
 }
 
 

@@ -11,14 +11,15 @@ from pathlib import Path
 FOLDER = Path(__file__).resolve().parent.parent / "similarforms"
 FILES = sorted(path for path in FOLDER.rglob("*") if "__pycache__" not in path.parts)
 LIBRARY = {("math", "gcd"), ("math", "isqrt"), ("math", "lcm")}
-BUILTINS = set("""len range enumerate zip max sum abs int str bool list tuple isinstance all any divmod sorted
+BUILTINS = set("""len range enumerate zip max sum abs int str bool list tuple dict isinstance all any divmod sorted iter
 ValueError""".split())
-METHODS = set("append pop join lstrip zfill isascii isdigit startswith partition".split())
-DUNDERS = {f"__{name}__" for name in "init eq str len call add sub mul floordiv mod neg".split()}
+METHODS = set("""append pop join lstrip strip zfill isascii isdigit isalpha islower startswith partition split replace
+get""".split())
+DUNDERS = {f"__{name}__" for name in "init eq str len iter call add sub mul floordiv mod neg".split()}
 NODES = set("""Module Expr Constant ImportFrom alias ClassDef FunctionDef arguments arg Assign AugAssign Return Raise If
 While For IfExp ListComp SetComp comprehension Name Attribute Call Subscript Slice Tuple List Load Store BinOp UnaryOp
 BoolOp Compare JoinedStr FormattedValue Add Sub Mult FloorDiv Mod Pow USub Not And Or Eq NotEq Lt LtE Gt GtE Is IsNot In
-""".split())
+NotIn Dict Starred Try ExceptHandler keyword""".split())
 WORDS = set("""register mro elements open input law version_info with_traceback add_note type typing enum Enum Flag
 Generic Protocol ABC namedtuple attrgetter breakpoint compile dir eval exec exit gc getattr globals hasattr help id
 locals os quit setattr super sys vars items keys values update args encode decode hex format""".split())
@@ -150,3 +151,28 @@ class LanguageTest(unittest.TestCase):
             if node.name != "__init__":
                 self.assertFalse([part for part in ast.walk(node) if isinstance(part, ast.Attribute)
                                   and not isinstance(part.ctx, ast.Load)], (name, node.name))
+
+    def test_handlers_name_own_errors(self):
+        for name, node in nodes_of(ast.ExceptHandler):
+            kinds = node.type.elts if isinstance(node.type, ast.Tuple) else [node.type]
+            self.assertLessEqual({kind.id for kind in kinds}, {"NoText", "Malformed", "Refused"}, name)
+        for name, node in nodes_of(ast.Try):
+            self.assertEqual((node.orelse, node.finalbody), ([], []), name)
+
+    def test_stars_stand_before_names(self):
+        for name, node in nodes_of(ast.Starred):
+            self.assertIsInstance(node.value, ast.Name, (name, node.lineno))
+
+    def test_tables_are_only_read(self):
+        for path in FILES:
+            tree = tree_of(path)
+            tables = {node.targets[0].id for node in tree.body if isinstance(node, ast.Assign)
+                      and isinstance(node.value, (ast.Dict, ast.Tuple))}
+            parents = {child: node for node in ast.walk(tree) for child in ast.iter_child_nodes(node)}
+            for node in ast.walk(tree):
+                if isinstance(node, ast.Name) and node.id in tables and isinstance(node.ctx, ast.Load):
+                    parent = parents[node]
+                    if isinstance(parent, ast.Attribute):
+                        self.assertEqual(parent.attr, "get", (path.name, node.lineno))
+                    else:
+                        self.assertIsInstance(parent, (ast.Subscript, ast.Compare), (path.name, node.lineno))

@@ -1,8 +1,10 @@
-"""Points 0.1 to 0.3: nothing changes, equal arguments give equal results."""
+"""Points 0.1 to 0.4: nothing changes, equal arguments give equal results, and the main facts."""
 
 import copy
 import unittest
+from itertools import product
 
+from similarforms.checker import takes_form, takes_minimal, takes_pair, takes_rank
 from similarforms.commuting import (commutant, commutant_dimension, commute, intertwiner_dimension, intertwiners,
                                     is_cyclic, polynomial_of)
 from similarforms.cyclic import characteristic_polynomial, cyclic_parts, restricted, split_off
@@ -12,6 +14,7 @@ from similarforms.feedback import feedback, fixed_polynomial
 from similarforms.form import frobenius_change, frobenius_form, invariant_factors
 from similarforms.ground import Ground, taken
 from similarforms.linear import kernel, rank, reduced, same_span, solve, span_holds
+from similarforms.log import first_wrong, read_data, read_log, write_data, write_log
 from similarforms.matrix import Matrix, companion, diagonal, nothing, unit
 from similarforms.minimal import (annihilator, is_invariant, joined_row, krylov, krylov_space, maximal_vector,
                                   minimal_polynomial)
@@ -22,9 +25,12 @@ from similarforms.poly import Poly
 from similarforms.ratio import Ratio, is_integer
 from similarforms.reach import four_sizes, is_observable, is_reachable, reachable_space, unobservable_space
 from similarforms.realize import least_recurrence, minimal_realization, same_outputs, state_change
+from similarforms.replies import Reply, defined, is_right, reply_to
 from similarforms.residue import Residue
+from similarforms.sheet import matrix_text, read_line, read_matrix
 from similarforms.similar import are_similar, find_change, rank_at, unlike_polynomial
 from similarforms.summands import is_semisimple, summand_polynomial, summands
+from tests.test_form import all_squares
 from tests.values import GROUNDS, every_value, same_object_state
 
 OPERATORS = {
@@ -64,6 +70,27 @@ def calls():
             found += [(each, (m, w)) for each in (solve, span_holds) for w in (numbers[:2], numbers[:3], [])]
             found += [(same_span, (m, other)) for other in matrices]
         found += calls_of_squares(ground, numbers, polys, matrices)
+        found += calls_of_sheets(ground, matrices)
+    return found
+
+
+def calls_of_sheets(ground, matrices):
+    """Return calls of everything in the checker and the console's chapter, but for the console itself."""
+    squares = [m for m in matrices if m.is_square()]
+    papers = [paper(a) for a in squares for paper in (rank_paper, minimal_paper, form_paper)]
+    papers += [pair_paper(a, b) for a in squares for b in squares]
+    found = [(takes, (a, paper)) for takes in (takes_rank, takes_minimal, takes_form) for a in squares
+             for paper in papers]
+    found += [(takes_pair, (a, b, paper)) for a in squares for b in squares for paper in papers]
+    found += [(matrix_text, (m,)) for m in matrices] + [(write_data, (paper,)) for paper in papers + [[], "a", 1]]
+    names = dict(zip("abc", squares))
+    lines = ["let d = q: 1/2", "rank a", "minimal b", "factors b", "similar b c", "sum d a b", "show c", "rank x", "", 5]
+    entries = [(line, reply_to(names, line)) for line in lines]
+    found += [(each, (names, line)) for each in (reply_to, defined) for line in lines]
+    found += [(is_right, (names, (line, reply))) for line in lines for _, reply in entries]
+    found += [(each, (some,)) for each in (first_wrong, write_log) for some in (entries, entries[:-1], entries[:1], [])]
+    found += [(each, (text,)) for each in (read_line, read_matrix, read_data, read_log)
+              for text in lines + ["q: 1/2", "(1 a 2m5)", "> a\n= b c\n# ()\n", f"{ground.p}: 1"]]
     return found
 
 
@@ -146,10 +173,10 @@ class OverviewTest(unittest.TestCase):
 
     def test_fields_hold_nothing_that_can_change(self):
         for value in every_value():
-            if isinstance(value, (Ratio, Residue, Ground, Poly, Matrix, Plant)):
+            if isinstance(value, (Ratio, Residue, Ground, Poly, Matrix, Plant, Reply)):
                 for field in vars(value).values():
-                    self.assertIsInstance(field, (int, tuple, Ground, Matrix))
-                    if isinstance(field, tuple):
+                    self.assertIsInstance(field, (int, str, tuple, Ground, Matrix))
+                    if isinstance(field, tuple) and not isinstance(value, Reply):
                         items = [item for row in field for item in (row if isinstance(row, tuple) else (row,))]
                         self.assertTrue(all(isinstance(item, (Ratio, Residue)) for item in items))
 
@@ -162,5 +189,34 @@ class OverviewTest(unittest.TestCase):
                            are_similar(m, unit(ground, 3)), commute(m, m), is_cyclic(m), is_nilpotent(m),
                            is_semisimple(m), Plant(m, (1, 1), (1, 1)) == m, is_reachable(Plant(m, (1, 1), (1, 1))),
                            is_observable(Plant(m, (1, 1), (1, 1))),
-                           same_outputs(Plant(m, (1, 1), (1, 1)), Plant(m, (1, 0), (1, 1)))):
+                           same_outputs(Plant(m, (1, 1), (1, 1)), Plant(m, (1, 0), (1, 1))),
+                           takes_rank(m, rank_paper(m)), takes_rank(m, None), takes_minimal(m, minimal_paper(m)),
+                           takes_minimal(m, None), takes_form(m, form_paper(m)), takes_form(m, None),
+                           takes_pair(m, m, pair_paper(m, m)), takes_pair(m, m, None), Reply("a") == Reply("a"),
+                           is_right({}, ("", Reply("done"))), is_right({}, ())):
                 self.assertIsInstance(answer, bool)
+
+
+class FactsTest(unittest.TestCase):
+    def test_each_pair_has_a_paper_of_one_kind(self):
+        ground = Ground(2)
+        matrices = all_squares(2, 2)
+        changes = [(m, m.inverse()) for m in matrices if not m.determinant().is_zero()]
+        polys = [Poly(ground, row) for row in product((0, 1), repeat=4)]
+        for a in matrices:
+            for b in matrices:
+                self.assertIs(takes_pair(a, b, pair_paper(a, b)), True)
+                similar = [p for p, q in changes if takes_pair(a, b, ("similar", p.rows, q.rows))]
+                unlike = [g for g in polys if takes_pair(a, b, ("unlike", g.row, rank_paper(a.at(g)),
+                                                                rank_paper(b.at(g))))]
+                self.assertEqual((similar == [], unlike == []), (not are_similar(a, b), are_similar(a, b)))
+                self.assertIs(frobenius_form(a) == frobenius_form(b), are_similar(a, b))
+
+    def test_what_commutes(self):
+        for p, n in ((2, 2), (3, 2)):
+            matrices = all_squares(p, n)
+            for a in matrices[::5]:
+                found = [x for x in matrices if commute(a, x)]
+                self.assertEqual(len(found), p ** commutant_dimension(a))
+                values = [x for x in found if all(commute(x, y) for y in found)]
+                self.assertEqual(values, [x for x in matrices if polynomial_of(a, x) is not None])

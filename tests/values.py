@@ -2,11 +2,13 @@
 
 from fractions import Fraction
 
+from similarforms.console import Console
 from similarforms.ground import Ground
 from similarforms.matrix import Matrix
 from similarforms.plant import Plant
 from similarforms.poly import Poly
 from similarforms.ratio import Ratio
+from similarforms.replies import Reply
 from similarforms.residue import Residue
 
 PRIMES = (2, 3, 5, 7, 11, 13, 17, 19, 23, 29, 31)
@@ -24,6 +26,7 @@ def every_value():
         Matrix(Ground(), ()), Matrix(Ground(2), ((1, 0), (0, 1))),
         [Ratio(1), Residue(2, 1)], (Residue(2, 1), Residue(3, 1)),
         Plant(Matrix(Ground(), ()), (), ()), Plant(Matrix(Ground(2), ((1,),)), (1,), (0,)),
+        Reply("done"), Reply("number", "1", (1, Ratio(1, 2))), Console(), Console(most=0),
     ]
 
 
@@ -56,8 +59,10 @@ def some_poly(ground, degree, source):
 
 def same_object_state(value):
     """Return all that an object of the program is made of, as plain values, to compare it later."""
-    if isinstance(value, (Ratio, Residue, Ground, Poly, Matrix, Plant)):
+    if isinstance(value, (Ratio, Residue, Ground, Poly, Matrix, Plant, Reply, Console)):
         return (type(value).__name__, tuple((k, same_object_state(v)) for k, v in sorted(vars(value).items())))
+    if isinstance(value, dict):
+        return (type(value).__name__, tuple((k, same_object_state(v)) for k, v in value.items()))
     if isinstance(value, (list, tuple)):
         return (type(value).__name__, tuple(same_object_state(item) for item in value))
     return (type(value).__name__, value)
