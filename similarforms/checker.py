@@ -77,7 +77,8 @@ def _takes_unlike(a, b, paper):
     if not _is_paper(paper, "unlike", 4):
         return False
     _, row, one, two = paper
-    if row != () and not _is_polynomial(a.ground, row):
+    # The empty row is left out: the value of zero has the rank 0 at both.
+    if not _is_polynomial(a.ground, row):
         return False
     g = Poly(a.ground, row)
     return takes_rank(a.at(g), one) and takes_rank(b.at(g), two) and one[1] != two[1]
@@ -97,7 +98,7 @@ def _is_table(ground, value, height, width):
 
 
 def _is_polynomial(ground, value):
-    """Return True for a row of coefficients, which are not all left out."""
+    """Return True for the row of coefficients of a polynomial other than zero."""
     fits = isinstance(value, tuple) and len(value) > 0
     return fits and _is_row(ground, value, len(value)) and not value[-1].is_zero()
 

@@ -25,7 +25,7 @@ def read_data(text):
         raise NoText(0)
     words = text.replace("(", "( ").replace(")", " )").split(" ")
     data = _nested([word for word in words if word != ""])
-    # Wrong spaces and zeros in front were let through so far.
+    # Wrong spaces, zeros in front and tuples that are not closed were let through so far.
     if write_data(data) != text:
         raise NoText(0)
     return data
@@ -96,7 +96,7 @@ def _nested(words):
             stack[-1].append(done)
         else:
             stack[-1].append(_single(word))
-    if len(stack) > 1 or len(stack[0]) != 1:
+    if len(stack[0]) != 1:
         raise NoText(0)
     return stack[0][0]
 

@@ -227,6 +227,9 @@ class WrongTest(Base):
                               ("minimal", (-one, one), flat[0], tables), ("form", (polynomial,), a.rows, a.rows)):
                     self.assertIs(takes_minimal(a, paper), False)
                     self.assertIs(takes_form(a, paper), False)
+                # This polynomial has the value 0, and there is a table of the told height and width.
+                power = Poly(ground, (-1, 1)).power(n).row
+                self.assertIs(takes_minimal(a, ("minimal", power, (one,) * 8, ((one,) * n,) * 8)), False)
                 self.assertIs(takes_pair(a, a, ("similar", tables, tables)), False)
                 self.assertIs(takes_pair(a, a, ("unlike", polynomial, rank_paper(a), rank_paper(a))), False)
             for m in (some_matrix(ground, 8, 64, self.source), nothing(ground, 8, 64)):
